@@ -243,6 +243,7 @@ func TestP5_1AheadEdges(t *testing.T) {
 		{"all alike but the ID", whole(1, 5, 9), whole(2, 5, 9), true, false},
 		{"IDs far from one another", whole(1, 5, 9), whole(math.MaxInt, 5, 9), true, false},
 		{"itself", whole(1, 5, 9), whole(1, 5, 9), false, false},
+		{"itself, of the greatest ID", whole(math.MaxInt, 5, 9), whole(math.MaxInt, 5, 9), false, false},
 		{"no deadline counts", whole(1, 5, 9), whole(1, 5, 8), false, false},
 		{"just short of a half of the way round", whole(2, 0, 0), whole(1, half-1, half-1), true, false},
 		{"a half of the way round each is behind", whole(1, 0, 0), whole(2, half, half), false, false},
